@@ -1,0 +1,1 @@
+"""Tablefind: little tables found in great ones."""

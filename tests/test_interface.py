@@ -1,0 +1,67 @@
+"""The interface, and the rules for files that a test can read off them."""
+
+import ast
+import unittest
+from importlib import import_module
+from pathlib import Path
+
+PACKAGE = Path(__file__).resolve().parent.parent / "tablefind"
+
+ERRORS = "TableError NoTable NoPose NoCell NoNumber TooMany NoText NoName NoRow"
+
+# Each file with the names that the document lists for it.
+LISTED = {
+    "errors": ERRORS.split(),
+    "tables": "is_table is_little size_of how_many_free signs_counted".split(),
+    "poses": "posed pose_behind pose_back same_poses unlike_poses".split(),
+    "places": "all_places stands_at".split(),
+}
+
+
+def files():
+    return sorted(PACKAGE.glob("*.py"))
+
+
+class Interface(unittest.TestCase):
+
+    def test_each_name_is_defined_in_the_file_that_lists_it(self):
+        for name, listed in LISTED.items():
+            tree = ast.parse((PACKAGE / f"{name}.py").read_text())
+            defined = [node.name for node in tree.body if isinstance(node, (ast.FunctionDef, ast.ClassDef))]
+            for one in listed:
+                self.assertIn(one, defined)
+                self.assertTrue(callable(getattr(import_module(f"tablefind.{name}"), one)))
+
+
+class Files(unittest.TestCase):
+
+    def test_the_folder_has_python_files_only(self):
+        found = [path.name for path in PACKAGE.iterdir() if path.name != "__pycache__" and path.suffix != ".py"]
+        self.assertEqual(found, [])
+        self.assertIn("__init__.py", [path.name for path in files()])
+
+    def test_plain_characters_and_short_lines(self):
+        for path in files():
+            text = path.read_text()
+            self.assertTrue(all([sign == "\n" or " " <= sign <= "~" for sign in text]), path.name)
+            lines = text.split("\n")
+            self.assertLess(len(lines), 400, path.name)
+            self.assertLessEqual(max([len(line) for line in lines]), 120, path.name)
+
+    def test_functions_have_at_most_forty_lines(self):
+        for path in files():
+            for node in ast.walk(ast.parse(path.read_text())):
+                if isinstance(node, ast.FunctionDef):
+                    self.assertLessEqual(node.end_lineno - node.lineno + 1, 40, node.name)
+
+    def test_imports_name_the_package_by_full_names(self):
+        for path in files():
+            for node in ast.walk(ast.parse(path.read_text())):
+                self.assertNotIsInstance(node, ast.Import, path.name)
+                if isinstance(node, ast.ImportFrom):
+                    self.assertEqual(node.level, 0, path.name)
+                    self.assertTrue(node.module.startswith("tablefind."), path.name)
+
+
+if __name__ == "__main__":
+    unittest.main()
