@@ -20,7 +20,8 @@ def cells_to_lie_at(great, little):
     return [(i, j) for i in range(rows) for j in range(columns)]
 
 
-def _lies_wholly(great, little, cell):
+def lies_wholly(great, little, cell):
+    """Whether the little table, with its first cell on the cell, lies in the great one."""
     i, j = cell
     # A cell below 0 would be counted from the end of the rows and seem to fit.
     if i < 0 or j < 0:
@@ -47,4 +48,4 @@ def all_places(great, little):
 def stands_at(great, little, cell):
     """Whether the little table stands at the cell of the great one."""
     check_both(great, little)
-    return _lies_wholly(great, little, cell) and _fits(great, cells_of_signs(little), cell)
+    return lies_wholly(great, little, cell) and _fits(great, cells_of_signs(little), cell)

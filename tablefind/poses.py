@@ -12,11 +12,12 @@ def check_pose(thing):
         raise NoPose("this is none of the eight poses")
 
 
-def _is_mirrored(pose):
+def is_mirrored(pose):
+    """Whether each row is turned about in the pose, ahead of the turns."""
     return pose.startswith("m")
 
 
-def _turns_of(pose):
+def turns_of(pose):
     """How many quarter turns the pose has."""
     return int(pose[-1])
 
@@ -43,8 +44,8 @@ def _turned_rows(rows):
 
 def rows_in_pose(rows, pose):
     """The rows of a little table in a pose, a new list; nothing is checked here."""
-    told = _mirrored_rows(rows) if _is_mirrored(pose) else list(rows)
-    for _ in range(_turns_of(pose)):
+    told = _mirrored_rows(rows) if is_mirrored(pose) else list(rows)
+    for _ in range(turns_of(pose)):
         told = _turned_rows(told)
     return told
 
@@ -60,21 +61,21 @@ def pose_behind(one, other):
     """The pose that comes to the first pose and then the second."""
     check_pose(one)
     check_pose(other)
-    mirrored = _is_mirrored(one) != _is_mirrored(other)
+    mirrored = is_mirrored(one) != is_mirrored(other)
     # A mirroring behind quarter turns comes to the same as one ahead of as
     # many turns the other way round.
-    if _is_mirrored(other):
-        return _pose_of(mirrored, _turns_of(other) - _turns_of(one))
-    return _pose_of(mirrored, _turns_of(other) + _turns_of(one))
+    if is_mirrored(other):
+        return _pose_of(mirrored, turns_of(other) - turns_of(one))
+    return _pose_of(mirrored, turns_of(other) + turns_of(one))
 
 
 def pose_back(pose):
     """The pose that undoes the pose."""
     check_pose(pose)
     # To mirror and then turn is to mirror along some line: twice is not at all.
-    if _is_mirrored(pose):
+    if is_mirrored(pose):
         return pose
-    return _pose_of(False, -_turns_of(pose))
+    return _pose_of(False, -turns_of(pose))
 
 
 def same_poses(little):

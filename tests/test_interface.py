@@ -15,6 +15,10 @@ LISTED = {
     "tables": "is_table is_little size_of how_many_free signs_counted".split(),
     "poses": "posed pose_behind pose_back same_poses unlike_poses".split(),
     "places": "all_places stands_at".split(),
+    "anypose": "places_posed cell_posed".split(),
+    "rounds": "round_places moved_round how_many_moved least_moved".split(),
+    "apart": "uncovered most_apart".split(),
+    "near": "unlike_at nearest_cells near_cells".split(),
 }
 
 

@@ -5,30 +5,16 @@ from copy import deepcopy
 
 from tablefind.places import all_places, stands_at
 from tablefind.poses import posed
-from tests.samples import POSES, SIGNS, assert_refused, freed, no_littles, no_tables, part_of, small_tables, wide_table
+from tests.by_cells import places_by_cells, signs_by_cells, stands_by_cells
+from tests.samples import (
+    FAR, POSES, SIGNS, assert_refused, freed, no_littles, no_tables, part_of, small_tables, wide_table,
+)
 
 GREAT = [
     "abcab",
     "cabca",
     "bcabc",
 ]
-
-FAR = 10 ** 30 - 1
-
-
-def signs_by_cells(table):
-    return {(i, j): sign for i, row in enumerate(table) for j, sign in enumerate(row)}
-
-
-def stands_by_cells(great, little, cell):
-    """Whether it stands there, by dicts of the cells of both, as signs_by_cells makes them."""
-    i, j = cell
-    return all((i + r, j + c) in great and sign in ("?", great[i + r, j + c]) for (r, c), sign in little.items())
-
-
-def places_by_cells(great, little):
-    cells, parts = signs_by_cells(great), signs_by_cells(little)
-    return [cell for cell in sorted(cells) if stands_by_cells(cells, parts, cell)]
 
 
 def cells_around(great, by):

@@ -4,6 +4,7 @@ import unittest
 from copy import deepcopy
 
 from tablefind.poses import pose_back, pose_behind, posed, same_poses, unlike_poses
+from tests.by_cells import posed_by_cells
 from tests.samples import POSES, SIGNS, assert_refused, freed, no_littles, no_poses, small_tables, wide_table
 
 LITTLE = ["abc", "d?f"]
@@ -57,22 +58,6 @@ LIKENESS = [
     (["xabx", "b..a", "a..b", "xbax"], ["0", "1", "2", "3"], ["0", "m0"]),
     (["xab", "b.a", "bax"], ["0"], POSES),
 ]
-
-
-def turned_by_cells(table):
-    """One quarter turn, cell by cell: row i, column j goes to row j, column last - i."""
-    rows, columns = len(table), len(table[0])
-    cells = {(j, rows - 1 - i): table[i][j] for i in range(rows) for j in range(columns)}
-    return ["".join([cells[i, j] for j in range(rows)]) for i in range(columns)]
-
-
-def posed_by_cells(table, pose):
-    rows = list(table)
-    if "m" in pose:
-        rows = ["".join(list(reversed(row))) for row in rows]
-    for _ in range("0123".index(pose[-1])):
-        rows = turned_by_cells(rows)
-    return rows
 
 
 def tables_of_many_sizes():
