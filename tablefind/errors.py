@@ -18,7 +18,7 @@ class NoCell(TableError):
 
 
 class NoNumber(TableError):
-    """What was handed in is no number that may be asked for."""
+    """What was handed in is no number that may be asked for, or there is no row to go."""
 
 
 class TooMany(TableError):
@@ -34,4 +34,4 @@ class NoName(TableError):
 
 
 class NoRow(TableError):
-    """What was handed in is no row that may come."""
+    """What was handed in is no row that may come, or be said at the desk."""

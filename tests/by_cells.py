@@ -118,3 +118,86 @@ def unlike_by_cells(great, little):
         if all((i + r, j + c) in cells for r, c in parts):
             told[i, j] = sum([sign not in ("?", cells[i + r, j + c]) for (r, c), sign in parts.items()])
     return told
+
+
+def squares_by_cells(great, s):
+    """A dict from each square of s rows and columns to the cells, sorted, at which it comes."""
+    signs = signs_by_cells(great)
+    told = {}
+    for i, j in sorted(signs):
+        cells = [(i + r, j + c) for r in range(s) for c in range(s)]
+        if all([cell in signs for cell in cells]):
+            told.setdefault(tuple([signs[cell] for cell in cells]), []).append((i, j))
+    return told
+
+
+def twice_by_cells(great):
+    """The greatest square that comes twice, with the least pair out of all pairs there are."""
+    for s in range(min(len(great), len(great[0])), 0, -1):
+        pairs = []
+        for cells in squares_by_cells(great, s).values():
+            pairs.extend(combinations(cells, 2))
+        if pairs:
+            return (s, *min(pairs))
+    return None
+
+
+def table_written_by_signs(table):
+    """The writing of a table, sign by sign."""
+    slashes = "/" in signs_by_cells(table).values()
+    told = ""
+    for i, row in enumerate(table):
+        if i > 0:
+            told += " " if slashes else "/"
+        for sign in row:
+            told += "//" if sign == "/" else sign
+    return told
+
+
+def table_read_by_signs(text):
+    """The table of which this is the writing, as the two ways to write one let it be; None of none."""
+    if not all([" " <= sign <= "~" for sign in text]):
+        return None
+    with_slashes = text.replace(" ", "\n").replace("//", "\0")
+    with_slashes = "" if "/" in with_slashes else with_slashes.replace("\0", "/")
+    without = "" if " " in text else text.replace("/", "\n")
+    told = []
+    for way, slashes in ((with_slashes, True), (without, False)):
+        rows = way.split("\n")
+        even = len({len(row) for row in rows}) == 1 and rows[0] != ""
+        if even and all(["!" <= sign <= "~" for sign in "".join(rows)]) and ("/" in way) is slashes:
+            told.append(rows)
+    assert len(told) < 2, text
+    return told[0] if told else None
+
+
+def cells_written(cells):
+    """The writing of a list of cells."""
+    return " ".join([str(i) + "." + str(j) for i, j in cells]) or "-"
+
+
+class KeptByCells:
+    """Rows as they come and go; what is told is how the places of them all change."""
+
+    def __init__(self, little, columns):
+        self.little = list(little)
+        self.kept = []
+
+    def places(self):
+        return places_by_cells(self.kept, self.little) if self.kept else []
+
+    def row(self, text):
+        before = self.places()
+        self.kept.append(text)
+        return [cell for cell in self.places() if cell not in before]
+
+    def back(self):
+        before = self.places()
+        self.kept.pop()
+        return [cell for cell in before if cell not in self.places()]
+
+    def first_gone(self):
+        before = self.places()
+        del self.kept[0]
+        moved = [(i + 1, j) for i, j in self.places()]
+        return [cell for cell in before if cell not in moved]

@@ -4,6 +4,8 @@ from copy import deepcopy
 from itertools import product
 
 from tablefind import errors
+from tablefind.desk import Desk
+from tests.by_cells import table_written_by_signs
 
 # Any sign that a row may have, but for ? and the per cent sign (point 2).
 SIGNS = "".join([chr(k) for k in range(33, 127) if chr(k) not in "?%"])
@@ -93,6 +95,20 @@ def no_cells(rows, columns):
     return beside + halves + others + [(), (0,), (1,)] + [thing for thing in no_wholes() if type(thing) is not tuple]
 
 
+def no_rows(columns):
+    """Things that are no row of so many columns, new ones."""
+    row = "ab" * columns
+    texts = ["", row[:columns - 1], row[:columns + 1], row, "?" * columns, "?" + row[:columns - 1],
+             row[:columns - 1] + "?", " " * columns, row[:columns - 1] + " ", " " + row[:columns - 1],
+             row[:columns - 1] + "\n", row[:columns] + "\n", "\t" + row[:columns - 1], row[:columns - 1] + "\r",
+             row[:columns] + " ", " " + row[:columns], row[:columns] + "/" + row[:columns], "x" * 3300]
+    row = row[:columns]
+    others = [row.encode(), bytearray(row.encode()), [row], (row,), {row}, {row: 1}, list(row), tuple(row), [[row]],
+              frozenset([row]), iter(row), lambda: row, 0, 1, columns, -1, FAR, None, True, False, 1j, ..., object(),
+              Plain(), Plain, Alike(), [Alike()], range(columns), len, str, [], (), {}, set(), [""]]
+    return [text for text in texts if text != row] + others
+
+
 def small_tables(most_rows, most_columns, signs):
     """All tables of these signs up to a size."""
     told = []
@@ -145,6 +161,14 @@ def pairs_of_many_sizes():
             great = wide_table(rows, columns, signs)
             told.extend([(great, little) for little in littles_for(great)])
     return told
+
+
+def desk_of(tables):
+    """A desk with these tables, a dict from names."""
+    desk = Desk()
+    for name, table in tables.items():
+        assert desk.say(f"table {name} {table_written_by_signs(table)}") == "ok"
+    return desk
 
 
 def assert_refused(case, name, asked, *handed):

@@ -19,6 +19,16 @@ LISTED = {
     "rounds": "round_places moved_round how_many_moved least_moved".split(),
     "apart": "uncovered most_apart".split(),
     "near": "unlike_at nearest_cells near_cells".split(),
+    "twice": "how_many_squares greatest_twice".split(),
+    "keeper": "Keeper".split(),
+    "texts": "show_table read_table show_cells read_cells".split(),
+    "desk": "Desk".split(),
+}
+
+# Each class with the methods that the document lists for it, and how many things are handed to each.
+METHODS = {
+    ("keeper", "Keeper"): {"__init__": 2, "row": 1, "back": 0, "first_gone": 0, "rows": 0, "cells": 0},
+    ("desk", "Desk"): {"__init__": 0, "say": 1, "names": 0},
 }
 
 
@@ -35,6 +45,15 @@ class Interface(unittest.TestCase):
             for one in listed:
                 self.assertIn(one, defined)
                 self.assertTrue(callable(getattr(import_module(f"tablefind.{name}"), one)))
+
+
+    def test_each_method_is_defined_in_its_class(self):
+        for (name, listed), methods in METHODS.items():
+            tree = ast.parse((PACKAGE / f"{name}.py").read_text())
+            body = [node.body for node in tree.body if isinstance(node, ast.ClassDef) and node.name == listed][0]
+            defined = {node.name: len(node.args.args) - 1 for node in body if isinstance(node, ast.FunctionDef)}
+            for method, handed in methods.items():
+                self.assertEqual(defined.get(method), handed, (listed, method))
 
 
 class Files(unittest.TestCase):
