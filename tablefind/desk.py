@@ -75,8 +75,8 @@ def _find(great, little):
     return show_cells(all_places(great, little))
 
 
-def _find_posed(great, little):
-    return f"{len(places_posed(great, little))}"
+def _how_many_posed(great, little):
+    return str(len(places_posed(great, little)))
 
 
 def _find_round(great, little):
@@ -120,7 +120,7 @@ ASKED_OF_ONE = {"least": _least, "twice": _twice, "same": _same, "show": _show}
 
 ASKED_OF_TWO = {
     "find": _find,
-    "any": _find_posed,
+    "any": _how_many_posed,
     "round": _find_round,
     "apart": _find_apart,
     "near": _find_near,
